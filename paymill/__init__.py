@@ -1,0 +1,1 @@
+"""Paymill: each day paid by its rules as known, each difference once."""

@@ -5,6 +5,7 @@ from fractions import Fraction
 
 from paymill import errors
 from paymill.days import Days
+from paymill.lines import line_of
 from paymill.parts import part
 
 REFUSALS = (
@@ -116,6 +117,72 @@ def random_knots(rng, many, low=-30, high=30):
     while len(xs) < many:
         xs.add(Fraction(rng.randint(1, 60), rng.randint(1, 4)))
     return [(as_part(x), random_part(rng, low, high)) for x in sorted(xs)]
+
+
+def random_line(rng, many=4, low=-30, high=30):
+    """A normal line of at most so many knots."""
+    return line_of(random_knots(rng, rng.randint(1, many), low, high), random_part(rng))
+
+
+def random_leaf(rng):
+    if rng.randint(0, 2) == 0:
+        return ("flat", random_part(rng))
+    return ("hours", random_line(rng))
+
+
+def random_rule(rng, tuples, deep=12, periods=(1, 2, 3, 4, 6, 12)):
+    """A rule of at most so many tuples, at most so deep."""
+    word = rng.choice(("on", "on", "sum", "most", "least", "times", "leaf"))
+    if tuples < 3 or deep < 2 or word == "leaf":
+        return random_leaf(rng)
+    if word == "times":
+        return ("times", random_part(rng), random_rule(rng, tuples - 1, deep - 1, periods))
+    few = rng.randint(1, tuples - 2)
+    first = random_rule(rng, few, deep - 1, periods)
+    second = random_rule(rng, tuples - 1 - few, deep - 1, periods)
+    if word == "on":
+        return ("on", random_days(rng, periods, turned=3, reach=20), first, second)
+    return (word, first, second)
+
+
+def slow_pay(rule, day, x):
+    """What a rule pays for a day and hours, in fractions, by the words of 4.1."""
+    word, *inner = rule
+    if word == "flat":
+        return worth(inner[0])
+    if word == "hours":
+        return slow_y(inner[0], x)
+    if word == "on":
+        return slow_pay(inner[1] if inner[0].has(day) else inner[2], day, x)
+    if word == "times":
+        return worth(inner[0]) * slow_pay(inner[1], day, x)
+    pair = [slow_pay(each, day, x) for each in inner]
+    return {"sum": sum, "most": max, "least": min}[word](pair)
+
+
+def tuples_of(rule):
+    """How many tuples a rule has in all, and how many within one another."""
+    inner = [tuples_of(each) for each in rule[1:] if type(each) is tuple
+             and each and type(each[0]) is str]
+    many = 1 + sum([each[0] for each in inner])
+    return many, 1 + max([each[1] for each in inner], default=0)
+
+
+def chain(deep, word="sum", leaf=("flat", (1, 1))):
+    """A rule with so many tuples within one another."""
+    rule = leaf
+    for _ in range(deep - 1):
+        rule = ("times", (1, 2), rule) if word == "times" else (word, leaf, rule)
+    return rule
+
+
+def bush(tuples, leaf=("flat", (1, 1))):
+    """A rule with so many tuples in all, not deep."""
+    row = [leaf] * ((tuples + 1) // 2)
+    while len(row) > 1:
+        row = [("sum", *row[at:at + 2]) if at + 1 < len(row) else row[at]
+               for at in range(0, len(row), 2)]
+    return row[0] if tuples % 2 else ("times", (1, 3), row[0])
 
 
 def random_days(rng, periods=(1, 2, 3, 4, 6, 12), turned=5, reach=30):

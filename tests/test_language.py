@@ -11,6 +11,7 @@ import unittest
 from pathlib import Path
 
 import paymill
+from paymill import errors
 
 PACKAGE = Path(paymill.__file__).parent
 LIBRARY = {
@@ -39,7 +40,7 @@ KEYWORDS = {"sorted": {"key", "reverse"}, "min": {"key", "default"}, "max": {"ke
             "sum": {"start"}, "enumerate": {"start"}, "zip": {"strict"}}
 BARRED_NODES = (
     ast.AsyncFunctionDef, ast.Import, ast.GeneratorExp, ast.Global, ast.Div, ast.Await,
-    ast.Match, ast.With, ast.Try,
+    ast.Match, ast.With,
 )
 BARRED_WORDS = set(
     "typing typing_extensions enum Enum IntEnum StrEnum Flag IntFlag Generic Protocol ABC "
@@ -155,6 +156,14 @@ class LanguageTest(unittest.TestCase):
         for path, node in nodes(ast.Constant):
             self.assertIn(type(node.value), (int, str, bool, type(None)), (path, node.lineno))
 
+    def test_own_errors_alone_are_caught(self):
+        for path, node in nodes(ast.Try):
+            self.assertEqual((node.orelse, node.finalbody), ([], []), (path, node.lineno))
+            for handler in node.handlers:
+                self.assertIsInstance(handler.type, ast.Name, (path, node.lineno))
+                self.assertIn(handler.type.id, vars(errors), (path, node.lineno))
+                self.assertIsNone(handler.name, (path, node.lineno))
+
     def test_strings(self):
         for path, tree in trees():
             told = docstrings(tree)
@@ -231,6 +240,10 @@ class LanguageTest(unittest.TestCase):
                     and node.func.id == "set")
                 if is_set:
                     self.assertTrue(any([node is one for one in fit]), (path, node.lineno))
+                if isinstance(node, ast.Call):
+                    for arg in node.args:
+                        if isinstance(arg, ast.Starred):
+                            self.assertIsInstance(arg.value, ast.Name, (path, node.lineno))
                 if isinstance(node, ast.BinOp) and isinstance(node.op, ast.Pow):
                     self.assertIsInstance(node.right, ast.Constant, (path, node.lineno))
                     self.assertLessEqual(node.right.value, 64, (path, node.lineno))

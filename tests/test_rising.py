@@ -1,0 +1,20 @@
+import random
+import unittest
+
+from paymill.rising import pairs_below
+
+
+class PairsBelowTest(unittest.TestCase):
+    def test_against_counting(self):
+        rng = random.Random(91)
+        for _ in range(200):
+            firsts = sorted(rng.sample(range(-20, 20), rng.randint(0, 12)))
+            pairs = [(first, None) for first in firsts]
+            for number in range(-22, 22):
+                below = len([first for first in firsts if first < number])
+                self.assertEqual(pairs_below(pairs, number), below)
+                self.assertEqual(pairs_below(tuple(pairs), number), below)
+
+
+if __name__ == "__main__":
+    unittest.main()

@@ -208,7 +208,7 @@ def _unlike_plain_day(one, other, odd_days):
     first, second = _numbers_of(one.rows, known), _numbers_of(other.rows, known)
     odd = set(odd_days)
     day = _unlike_by_rests(first, second, 0)
-    while day is not None and day in odd:
+    while day in odd:
         day = _unlike_by_rests(first, second, day + 1)
     return day
 

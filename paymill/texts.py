@@ -125,20 +125,18 @@ def _value_of(word, want, found):
 
 
 def _number_of(word):
-    """The whole number that a word writes; None where it writes none."""
+    """The whole number that a word writes, perhaps with noughts ahead, or None."""
     plain = word.removeprefix("-")
     if not (plain.isascii() and plain.isdigit() and len(plain) <= _MOST_FIGURES):
         return None
-    number = int(word)
-    return number if figures(number) == word else None
+    return int(word)
 
 
 def _numbers_of(word):
-    """The numbers that a word writes with commas between; None where it doesn't."""
+    """What a word writes with commas between, each as _number_of tells."""
     if word == "":
         return []
-    numbers = [_number_of(each) for each in word.split(",")]
-    return None if None in numbers else numbers
+    return [_number_of(each) for each in word.split(",")]
 
 
 def _part_of(word):
@@ -154,12 +152,9 @@ def _part_of(word):
 def _days_of(word):
     """The Days that a word writes; None where it writes none."""
     period, _, behind = word.partition(":")
-    marked, _, turns = behind.partition(";")
-    marks, turned = _numbers_of(marked), _numbers_of(turns)
-    if marks is None or turned is None:
-        return None
+    marks, _, turned = behind.partition(";")
     try:
-        days = Days(_number_of(period), marks, turned=turned)
+        days = Days(_number_of(period), _numbers_of(marks), turned=_numbers_of(turned))
     except NoDays:
         return None
     # Only the normal form is written so.

@@ -19,9 +19,14 @@ class Sheet:
 
     def __init__(self, rows, *, odd=()):
         _refuse_wrong(rows, odd)
-        many = _least_round(_numbers_of(rows, {}))
+        known = {}
+        numbers = _numbers_of(rows, known)
+        many = _least_round(numbers)
         self.rows = tuple(rows[:many])
         self.odd = tuple([(day, line) for day, line in sorted(odd) if line != rows[day % many]])
+        # Of many days alike each line is to be asked but once.
+        self._lines = tuple(known)
+        self._numbers = numbers[:many]
 
     def line_on(self, day):
         """The line of a day."""
@@ -81,6 +86,26 @@ def parted(one, other):
     # nothing but odd days to look at.
     day = min(from_0_on) if from_0_on else max(unlike)
     return (day, unlike_at(one.line_on(day), other.line_on(day)))
+
+
+def lines_by_rest(sheet, one, other):
+    """Pairs (line, how many) of the days from one on, ahead of other, by their rest.
+
+    So odd days count as if they weren't odd.
+    """
+    rounds, behind = divmod(other - one, len(sheet))
+    counts = [0] * len(sheet._lines)
+    if rounds > 0:
+        for number in sheet._numbers:
+            counts[number] += rounds
+    for number in _cut_out(sheet._numbers, one, behind):
+        counts[number] += 1
+    return [(line, many) for line, many in zip(sheet._lines, counts) if many > 0]
+
+
+def odd_between(sheet, one, other):
+    """Pairs (day, line) of the odd days from one on, ahead of other."""
+    return sheet.odd[pairs_below(sheet.odd, one):pairs_below(sheet.odd, other)]
 
 
 def _refuse_wrong(rows, odd):

@@ -158,7 +158,9 @@ class LanguageTest(unittest.TestCase):
 
     def test_own_errors_alone_are_caught(self):
         for path, node in nodes(ast.Try):
-            self.assertEqual((node.orelse, node.finalbody), ([], []), (path, node.lineno))
+            self.assertEqual(node.orelse, [], (path, node.lineno))
+            for last in node.finalbody:
+                self.assertTrue(is_append_of_names(last), (path, last.lineno))
             for handler in node.handlers:
                 self.assertIsInstance(handler.type, ast.Name, (path, node.lineno))
                 self.assertIn(handler.type.id, vars(errors), (path, node.lineno))
@@ -247,6 +249,16 @@ class LanguageTest(unittest.TestCase):
                 if isinstance(node, ast.BinOp) and isinstance(node.op, ast.Pow):
                     self.assertIsInstance(node.right, ast.Constant, (path, node.lineno))
                     self.assertLessEqual(node.right.value, 64, (path, node.lineno))
+
+
+def is_append_of_names(node):
+    """Whether a statement is `x.y.append((name, "word"))`, or the like."""
+    if not (isinstance(node, ast.Expr) and isinstance(node.value, ast.Call)):
+        return False
+    call = node.value
+    return (isinstance(call.func, ast.Attribute) and call.func.attr == "append"
+            and isinstance(call.func.value, ast.Attribute) and isinstance(call.args[0], ast.Tuple)
+            and all([isinstance(one, (ast.Name, ast.Constant)) for one in call.args[0].elts]))
 
 
 def is_type_of(node):

@@ -4,7 +4,7 @@ Bands are a row of pairs (from, rate), the first from nought. As a line of
 what they take, they bend just where their rates change.
 """
 
-from paymill.errors import NoAmount, NoTable
+from paymill.errors import NoTable
 from paymill.lines import first_at, line_of, put_into, sum_line, times_line, y_at
 from paymill.parts import NOUGHT, ONE, is_amount, is_less, less, over, plus, times
 
@@ -28,18 +28,13 @@ def normal_bands(bands):
 def taken(bands, amount, *, ahead=NOUGHT):
     """What is taken of an amount that comes behind a sum ahead."""
     line = taken_line(bands)
-    total = plus(ahead, amount)
-    if ahead[0] < 0 or total[0] < 0:
-        raise NoAmount("a year's sum is nought or more")
-    return less(y_at(line, total), y_at(line, ahead))
+    # The line itself refuses sums below 0.
+    return less(y_at(line, plus(ahead, amount)), y_at(line, ahead))
 
 
 def left(bands, total):
     """What is left of a sum."""
-    line = _left_line(bands)
-    if total[0] < 0:
-        raise NoAmount("a year's sum is nought or more")
-    return y_at(line, total)
+    return y_at(_left_line(bands), total)
 
 
 def least_left(bands, goal):

@@ -11,7 +11,7 @@ from paymill.parts import is_whole
 COMMON = 1
 _MOST_LOTS = 20
 _MOST_ASKS = 40
-_MOST_MANY = 10 ** 6
+_MOST_MANY = 1000000
 
 
 def are_lots(thing):
@@ -272,7 +272,7 @@ def _reached(lots, asks, plan, days, room):
 def _bar_from(lots, asks, plan, days):
     """The days that can be reached from some days, where no lot has room."""
     came, _ = _reached(lots, asks, plan, days, [0] * len(lots))
-    reached = [ask[0] for lot, ask in zip(plan, asks) if lot is not None and lot in came]
+    reached = [ask[0] for lot, ask in zip(plan, asks) if lot in came]
     return tuple(sorted(set(days + reached)))
 
 

@@ -5,6 +5,6 @@ _LONGEST = 8
 
 def is_name(thing):
     """Whether anything is a name."""
-    if not (type(thing) is str and 1 <= len(thing) <= _LONGEST):
+    if not (type(thing) is str and len(thing) <= _LONGEST):
         return False
     return thing.isascii() and thing.isalpha() and thing.islower()

@@ -93,7 +93,8 @@ class LinesTest(unittest.TestCase):
                  ("payday 0", "bob 0 0 0"), (f"payday {most}", "bob 0 0 0"), ("due bob 0 0 known 0", "0"))
         refused(self, NoNumber, desk.say, f"withdraw {most}")
         refused(self, NoNumber, desk.say, f"due bob 0 0 known {most}")
-        for day in (str(most + 1), str(-most - 1), "00", "-0", "01", "-01", "+1", "1.0", "1e3", "", "-", "--1", "1-", "x",
+        for day in (str(most + 1), str(-most - 1), "00", "-0", "01", "-01", "+1", "1.0", "1e3", "", "-", "--1", "1-",
+                    "x",
                     "1_0", "\u0661", "\u00b2", " ", "1\n", "0x1", "1/1", "\u22121", "0" * 20):
             for line in (f"payday {day}", f"due bob {day} 5", f"due bob 5 {day}", f"rank bob {day} - x",
                          f"hours bob {day} - 1", f"rule cook {day} - flat 0", f"withdraw {day}",
@@ -119,23 +120,34 @@ class LinesTest(unittest.TestCase):
     def test_no_lines(self):
         desk = told_desk("payday 3")
         for line in (
-            "", " ", "  ", "x", "rule", "rank", "hours", "withdraw", "payday", "due", "account", "explained", "known", "all",
-            "all ", "all  ", "none", "ok", "Back", "back ", " back", "back back", "people ", " people", "people bob", "log ",
+            "", " ", "  ", "x", "rule", "rank", "hours", "withdraw", "payday", "due", "account", "explained", "known",
+            "all",
+            "all ", "all  ", "none", "ok", "Back", "back ", " back", "back back", "people ", " people", "people bob",
+            "log ",
             "log 1", "account", "account ", "account  bob", "account bob ", "account bob bob", "explained bob ",
             "explained  ", "withdraw 0 ", "withdraw  0", "withdraw 0 0", "payday 5 ", "payday  5", " payday 5",
-            "payday 5 5", "rank bob 0 -", "rank bob 0 - ", "rank bob 0 - cook ", "rank bob 0 - cook x", "rank  0 - cook",
+            "payday 5 5", "rank bob 0 -", "rank bob 0 - ", "rank bob 0 - cook ", "rank bob 0 - cook x",
+            "rank  0 - cook",
             "rank bob  - cook", "rank bob 0  cook", "rank  bob 0 - cook", "hours bob 0 -", "hours bob 0 - 1 ",
-            "hours bob 0 - 1 1", "hours  0 - 1", "rule cook 0 -", "rule cook 0", "rule  0 - flat 0", "rule cook  - flat 0",
+            "hours bob 0 - 1 1", "hours  0 - 1", "rule cook 0 -", "rule cook 0", "rule  0 - flat 0",
+            "rule cook  - flat 0",
             "rule cook 0  flat 0", "rule cook - - flat 0", "rank bob - - cook", "hours bob - 5 1", "due bob 0",
             "due bob 0 5 ", "due bob 0 5 known", "due bob 0 5 known ", "due bob 0 5 known 1 ", "due bob 0 5 known 1 2",
-            "due bob 0 5 knows 1", "due bob 0 5 1", "due bob 0 - ", "due bob 0 -", "due  0 5", "due 0 5", "due bob 0  5",
+            "due bob 0 5 knows 1", "due bob 0 5 1", "due bob 0 - ", "due bob 0 -", "due  0 5", "due 0 5",
+            "due bob 0  5",
             "all all payday 5", "all back", "all people", "all due bob 0 5", "all payday 5 ;", "all payday 5 ; ",
-            "all ; payday 5", "all  ; payday 5", "all payday 5 ;  payday 6", "all payday 5  ; payday 6", "all payday 5;payday 6",
+            "all ; payday 5", "all  ; payday 5", "all payday 5 ;  payday 6", "all payday 5  ; payday 6",
+            "all payday 5;payday 6",
             "all  payday 5", "all payday 5 ", "payday 5 ; payday 6", "all payday 5 ; back", "all payday 5 ; x",
-            "payday\t5", "payday 5\n", "Payday 5", "pay 5", "rule\ncook 0 - flat 0", "alls payday 5",
+            "account bob 0 5 known 1", "explained bob 0 5 known 1", "people bob 0 5 known 1", "back bob 0 5 known 1",
+            "payday known", "withdraw known", "due bob known 5", "due bob 0 5 7 1", "due bob 0 5 - 1",
+            "rank bob known - x",
+            "rank bob 0 known x", "payday\t5", "payday 5\n", "Payday 5", "pay 5", "rule\ncook 0 - flat 0",
+            "alls payday 5",
         ):
             refused(self, NoDeed, desk.say, line)
-        self.assertEqual((desk.say("people"), desk.say("due bob 0 7"), desk.say("payday 3")), ("bob", "288", "bob 288 0 0"))
+        self.assertEqual((desk.say("people"), desk.say("due bob 0 7"), desk.say("payday 3")),
+                         ("bob", "288", "bob 288 0 0"))
         for thing in odd_things():
             if type(thing) is not str:
                 refused(self, NoDeed, desk.say, thing)
@@ -145,7 +157,8 @@ class LinesTest(unittest.TestCase):
     def test_texts(self):
         desk = told_desk()
         for text, at in (
-            ("", 0), (" ", 0), (" flat 0", 0), ("flat", 1), ("flat ", 1), ("flat 0 ", 2), ("flat  0", 1), ("x", 0), ("flat 00", 1),
+            ("", 0), (" ", 0), (" flat 0", 0), ("flat", 1), ("flat ", 1), ("flat 0 ", 2), ("flat  0", 1), ("x", 0),
+            ("flat 00", 1),
             ("flat 0 0", 2), ("flat\t0", 0), ("flat 0\n", 1), ("flat \u0660", 1), ("\u00e9", 0), ("sum flat 0", 3),
             ("on 7:0,1 hours 0:0,8:96 12 flat 0", 4), ("flat -", 1), ("flat 0 ;", 2), ("flat " + chr(37), 1),
         ):
@@ -160,7 +173,8 @@ class LinesTest(unittest.TestCase):
         desk = told_desk("payday 9")
         before = desk.say("log")
         # No line ahead of all, then a TEXT.
-        for line in ("rule COOK x - x", "rule COOK 5 4x x", "all withdraw 99 ; rule cook 0 - x ; x", "all payday 3 ; payday x",
+        for line in ("rule COOK x - x", "rule COOK 5 4x x", "all withdraw 99 ; rule cook 0 - x ; x",
+                     "all payday 3 ; payday x",
                      "all rule cook 0 - x ; payday", "all rule cook 0 - ; rule cook 0 -"):
             refused(self, NoDeed, desk.say, line)
         for line in ("rule COOK 5 5 x", "all withdraw 99 ; rule cook 0 - x", "all payday 3 ; rule cook 5 5 flat",
@@ -170,7 +184,8 @@ class LinesTest(unittest.TestCase):
         self.assertEqual(desk.say("log"), before)
         # Then as the keeper refuses.
         for line, kind in (
-            ("rule COOK 5 5 flat 0", NoName), ("rule cook 5 5 flat 0", NoTelling), ("rule cook 5 - " + LONG_TEXT, TooLong),
+            ("rule COOK 5 5 flat 0", NoName), ("rule cook 5 5 flat 0", NoTelling),
+            ("rule cook 5 - " + LONG_TEXT, TooLong),
             ("rank B 5 5 c", NoName), ("rank b 5 5 C", NoName), ("rank b 5 4 c", NoTelling), ("hours B 5 5 -1", NoName),
             ("hours b 5 5 -1", NoTelling), ("hours b 5 6 -1", NoAmount), ("withdraw 3", NoNumber), ("payday 8", NoCut),
             ("due al 5 4", NoName), ("due bob 5 4 known 99", NoStretch), ("due bob 5 5 known 99", NoNumber),
@@ -189,7 +204,8 @@ class LinesTest(unittest.TestCase):
         self.say(desk, (line, "0 ; 1 ; 2 ; bob 288 288 0 ; 3 ; bob 0 0 288"), ("all payday 7", "bob 0 0 288"),
                  ("all rank al 0 - x ; payday 9", "4 ; al 0 0 0, bob 0 0 288"), ("back", "ok"), ("people", "bob"))
         refused(self, NoNumber, desk.say, "all rank al 0 - x ; withdraw 3")
-        self.say(desk, ("people", "bob"), ("back", "ok"), ("back", "ok"), ("people", "none"), ("all payday 0 ; payday 0", "none ; none"))
+        self.say(desk, ("people", "bob"), ("back", "ok"), ("back", "ok"), ("people", "none"),
+                 ("all payday 0 ; payday 0", "none ; none"))
 
     def test_parted_from_the_left_on(self):
         desk = told_desk()
@@ -208,10 +224,12 @@ class LinesTest(unittest.TestCase):
 class CountsTest(unittest.TestCase):
     def test_counts(self):
         desk = Desk()
-        self.assertEqual((desk.counts(), len(desk), repr(desk), bool(len(desk))), ((0, 0), 0, "Desk(0 told, 0 refused)", False))
+        self.assertEqual((desk.counts(), len(desk), repr(desk), bool(len(desk))),
+                         ((0, 0), 0, "Desk(0 told, 0 refused)", False))
         told = gone = 0
         for line, fits in (
-            ("people", True), (None, False), ("x", False), (START[0], True), ("rule cook 0 - x", False), ("payday -1", False),
+            ("people", True), (None, False), ("x", False), (START[0], True), ("rule cook 0 - x", False),
+            ("payday -1", False),
             (Contrary(), False), ("all payday 0 ; payday 0", True), ("all payday 0 ; x", False), ("account al", False),
             ("all payday 0 ; withdraw 9", False), ("back", True), (5, False), ([], False), ("", False), ("log", True),
         ):
@@ -254,7 +272,8 @@ class BesideAKeeperTest(unittest.TestCase):
             known = rng.randint(0, keeper.events() + 1)
             for line, call, args, more, text in (
                 (f"due {name} {one} {other}", keeper.due, (name, one, other), {}, part_text),
-                (f"due {name} {one} {other} known {known}", keeper.due, (name, one, other), {"known": known}, part_text),
+                (f"due {name} {one} {other} known {known}", keeper.due, (name, one, other), {"known": known},
+                 part_text),
                 (f"account {name}", keeper.account, (name,), {}, lambda pair: " ".join(map(part_text, pair))),
                 (f"explained {name}", keeper.explained, (name,), {}, lambda row: " ".join(
                     [f"{'-' if number is None else number}:{part_text(one)}" for number, one in row]) or "none"),

@@ -336,7 +336,8 @@ class RowTest(unittest.TestCase):
         fit = [("hours", "bob", 0, 9, HALF), ("payday", 7), ("withdraw", 1), ("rank", "al", 0, 1, "x")]
         for deed, kind in (
             (("withdraw", 1), NoNumber), (("withdraw", 9), NoNumber), (("payday", 6), NoCut), (("payday", None), NoCut),
-            (("rule", "A", 0, None, PAID), NoName), (("rank", "a", 0, None, ""), NoName), (("rank", "a", 1, 1, "b"), NoTelling),
+            (("rule", "A", 0, None, PAID), NoName), (("rank", "a", 0, None, ""), NoName),
+            (("rank", "a", 1, 1, "b"), NoTelling),
             (("rule", "a", 0, None, ()), NoRule), (("rule", "a", 0, None, LONG_RULE), TooLong),
             (("hours", "bob", 0, None, (-1, 1)), NoAmount), (None, NoDeed), ((), NoDeed), (["payday", 9], NoDeed),
             (("payday",), NoDeed), (("payday", 9, 9), NoDeed), (("back",), NoDeed), (("all", ()), NoDeed),
@@ -433,7 +434,8 @@ class LogTest(unittest.TestCase):
     def test_what_is_told_is_no_list(self):
         keeper = paid_keeper()
         keeper.payday(5)
-        self.assertEqual([type(told) for told in (keeper.log(), keeper.paydays(), keeper.people(), keeper.account("bob"),
+        self.assertEqual([type(told) for told in (keeper.log(), keeper.paydays(), keeper.people(),
+                                                  keeper.account("bob"),
                                                   keeper.explained("bob"), keeper.payday(5))], [tuple] * 6)
 
 

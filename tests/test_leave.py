@@ -217,6 +217,10 @@ class PapersTest(unittest.TestCase):
         self.assertEqual(papers_of((), ()), {})
         self.assertEqual(list(papers_of(LOTS, ASKS)), [1, 2, 3, 4, 5, 9])
         self.assertEqual(papers_of(asks=((7, 3),), lots=LOTS), {3: ()})
+        worths = (10 ** 6, 7, 40000, 123456, 33, 9999)
+        asks = tuple([(7, worth) for worth in worths])
+        self.assertEqual(list(papers_of(LOTS, asks)), sorted(worths))
+        self.assertIs(papers_right(LOTS, asks, best_leave(LOTS, asks)[1], papers_of(LOTS, asks)), True)
         self.assertEqual(papers_of((), ((7, 3),)), {3: (7,)})
 
     def test_told_ones_fit_all_best_plans(self):
@@ -394,8 +398,10 @@ class BookTest(unittest.TestCase):
         same.drop(1)
         self.assertTrue(book == same)
         self.assertFalse(book != same)
-        for other in (LeaveBook(LOTS), LeaveBook(LOTS[:2], asks=((7, 1), (3, 2))), LeaveBook(LOTS, asks=((7, 1), (3, 1))),
-                      LeaveBook(LOTS + LOTS[:1], asks=((7, 1), (3, 2))), LeaveBook(LOTS, asks=((7, 1), (3, 2), (3, 2)))):
+        for other in (LeaveBook(LOTS), LeaveBook(LOTS[:2], asks=((7, 1), (3, 2))),
+                      LeaveBook(LOTS, asks=((7, 1), (3, 1))),
+                      LeaveBook(LOTS + LOTS[:1], asks=((7, 1), (3, 2))),
+                      LeaveBook(LOTS, asks=((7, 1), (3, 2), (3, 2)))):
             self.assertFalse(book == other)
             self.assertFalse(other == book)
         for thing in odd_things():

@@ -276,7 +276,8 @@ class MixTest(unittest.TestCase):
             (((0, 1), HALF), ((1, 0), HALF), ((1, 0), NOUGHT)), ((([0, 1]), HALF), ((1, 0), HALF)),
             (((0, 0), HALF), ((1, 1), HALF)), (((0, 1), HALF), ((True, 0), HALF)), (((0, 1), HALF), Contrary()),
             (((0, 1), HALF), ((1, 0), Contrary())), (((0, 1), HALF), (Contrary(), HALF)), (row, row),
-            (((0, 1), HALF, 1), ((1, 0), HALF, 1)), (((0, 1), 1), ((1, 0), 1)), dict(row), (((-1, 1), HALF), ((2, 0), HALF)),
+            (((0, 1), HALF, 1), ((1, 0), HALF, 1)), (((0, 1), 1), ((1, 0), 1)), dict(row),
+            (((-1, 1), HALF), ((2, 0), HALF)),
         ]:
             self.assertIs(mix_right(amounts, (), (), thing), False, repr(thing))
 

@@ -7,6 +7,7 @@ way is left, all lots that could be reached are full, and their days are a bar.
 
 from paymill.errors import NoLeave, NoNumber
 from paymill.parts import is_whole
+from paymill.rising import is_rising
 
 COMMON = 1
 _MOST_LOTS = 20
@@ -162,9 +163,7 @@ def _is_ask(thing):
 
 def _is_bar(thing):
     """Whether anything is a rising tuple of days."""
-    if not (type(thing) is tuple and all([is_whole(day) for day in thing])):
-        return False
-    return all([thing[at] < thing[at + 1] for at in range(len(thing) - 1)])
+    return type(thing) is tuple and all([is_whole(day) for day in thing]) and is_rising(thing)
 
 
 def _is_plan(lots, asks, thing):

@@ -10,6 +10,7 @@ effect on what comes to a set and leaves it.
 from paymill.errors import NoFold, NoNumber
 from paymill.parts import NOUGHT, ONE, floor, is_part, is_whole
 from paymill.parts import least, less, part, plus, summed, times
+from paymill.rising import is_rising
 
 _MOST_SETS = 40
 
@@ -82,9 +83,7 @@ def _is_set(many, thing):
     """Whether anything is a rising tuple of some of so many places."""
     if not (type(thing) is tuple and 1 <= len(thing) <= many):
         return False
-    if not all([is_whole(place) and 0 <= place < many for place in thing]):
-        return False
-    return all([thing[at] < thing[at + 1] for at in range(len(thing) - 1)])
+    return all([is_whole(place) and 0 <= place < many for place in thing]) and is_rising(thing)
 
 
 def _refuse_no_folding(amounts, one, other):

@@ -11,6 +11,7 @@ from paymill.lines import line_of
 from paymill.names import is_name
 from paymill.parts import NOUGHT, is_amount, is_less, is_whole
 from paymill.parts import least, less, over, summed, times
+from paymill.rising import is_rising
 
 _MOST_ORDERS = 30
 _MOST_POTS = 30
@@ -159,8 +160,7 @@ def _is_row(thing, known, is_fit):
     """Whether anything is a rising row of fit things that are known."""
     if not (type(thing) is tuple and all([is_fit(one) for one in thing])):
         return False
-    rising = [thing[at] < thing[at + 1] for at in range(len(thing) - 1)]
-    return all(rising) and all([one in known for one in thing])
+    return is_rising(thing) and all([one in known for one in thing])
 
 
 def _is_by_names(orders, thing):

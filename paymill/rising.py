@@ -1,4 +1,9 @@
-"""Rows of pairs whose firsts rise: where a number stands among these."""
+"""Rows that rise: whether they do, and where a number stands among pairs."""
+
+
+def is_rising(row):
+    """Whether each of a row is greater than the one ahead of it."""
+    return all([row[at] < row[at + 1] for at in range(len(row) - 1)])
 
 
 def pairs_below(pairs, number):

@@ -4,7 +4,7 @@ import unittest
 from fractions import Fraction
 
 from common import (
-    as_part, parameters, random_line, random_part, random_rule, refused, slow_y, worth,
+    as_part, parameters, random_line, random_part, random_rule, refused, slow_value, slow_y, worth,
 )
 from paymill import dues
 from paymill.days import MOST_PERIOD, Days
@@ -23,14 +23,6 @@ CLERK = sheet_of(("flat", part(50)))
 BOOK = {"cook": ((0, COOK), (100, None), (110, CLERK)), "clerk": ((-20, CLERK),)}
 BOB = (((-5, "cook"), (60, "clerk"), (90, "cook"), (200, None)), ((0, part(8)), (50, part(10)), (70, None),
                                                                  (75, part(1, 2))))
-
-
-def slow_value(course, day):
-    found = None
-    for begin, value in course:
-        if begin <= day:
-            found = value
-    return found
 
 
 def slow_pays(sheet, day, hours):

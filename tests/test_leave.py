@@ -3,7 +3,7 @@ import time
 import unittest
 from itertools import combinations, product
 
-from common import Contrary, nested, odd_things, parameters, refused
+from common import Contrary, Sly, nested, odd_things, parameters, refused
 from paymill import leave
 from paymill.errors import NoLeave, NoNumber
 from paymill.leave import (
@@ -14,19 +14,6 @@ from paymill.leave import (
 FAR = 10 ** 18
 LOTS = ((0, 10, 1), (5, 20, 2), (20, 30, 1))
 ASKS = ((7, 1), (7, 5), (3, 2), (12, 1), (25, 3), (25, 9), (99, 4))
-
-
-class Sly:
-    """A key that is taken for a number's, and raises where it is asked."""
-
-    def __init__(self, number):
-        self.number = number
-
-    def __hash__(self):
-        return hash(self.number)
-
-    def __eq__(self, other):
-        raise RuntimeError("asked ==")
 
 
 def is_alive(lot, day):

@@ -2,7 +2,7 @@ import random
 import unittest
 from fractions import Fraction
 
-from common import Contrary, as_part, nested, odd_things, parameters, refused, worth
+from common import Contrary, Sly, as_part, nested, odd_things, parameters, refused, worth
 from paymill import pots
 from paymill.errors import NoPot
 from paymill.lines import is_line, y_at
@@ -13,19 +13,6 @@ from paymill.pots import (
 
 HALF_F = Fraction(1, 2)
 LETTERS = "abcdefghijklmnopqrstuvwxyz"
-
-
-class Sly:
-    """A key that is taken for a name's, and raises where it is asked."""
-
-    def __init__(self, name):
-        self.name = name
-
-    def __hash__(self):
-        return hash(self.name)
-
-    def __eq__(self, other):
-        raise RuntimeError("asked ==")
 
 
 def order(name, want=10, rank=0, weight=1):

@@ -1,7 +1,15 @@
 import random
 import unittest
 
-from paymill.rising import pairs_below
+from paymill.rising import is_rising, pairs_below
+
+
+class IsRisingTest(unittest.TestCase):
+    def test_rows(self):
+        for row in ((), (5,), (1, 2), [-3, 0, 10 ** 30], ("a", "b"), ((), (0,), (0, 1), (1,))):
+            self.assertIs(is_rising(row), True)
+        for row in ((1, 1), (2, 1), (1, 3, 2), [1, 2, 2], ("b", "a"), ((0,), ())):
+            self.assertIs(is_rising(row), False)
 
 
 class PairsBelowTest(unittest.TestCase):

@@ -1,7 +1,7 @@
 import random
 import unittest
 
-from common import Contrary, odd_things, parameters, refused
+from common import Contrary, odd_things, parameters, refused, slow_value
 from paymill import tellings as tellings_file
 from paymill.days import Days
 from paymill.errors import NoNumber, NoStretch, NoTelling
@@ -23,15 +23,6 @@ def slow_holder(told, day, gone=()):
     for number, (begin, end, _) in enumerate(told):
         if number not in gone and begin <= day and (end is None or day < end):
             found = number
-    return found
-
-
-def slow_value(course, day):
-    """The value of a day, by the words of 6.2."""
-    found = None
-    for begin, value in course:
-        if begin <= day:
-            found = value
     return found
 
 

@@ -5,6 +5,7 @@ on a copy of all that there is.
 """
 
 from fractions import Fraction
+from math import lcm
 
 from common import as_part, slow_pay, worth
 from paymill.days import MOST_PERIOD
@@ -13,7 +14,6 @@ from paymill.errors import (
 )
 from paymill.parts import is_amount
 from paymill.rules import is_rule
-from math import lcm
 
 LETTERS = "abcdefghijklmnopqrstuvwxyz"
 SIZES = {"rule": 5, "rank": 5, "hours": 5, "withdraw": 2, "payday": 2}
